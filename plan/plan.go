@@ -159,6 +159,9 @@ func (p *Plan) Where(at int, name string) (Place, bool) {
 	return Place{}, false
 }
 
+// Slot returns the slot of the name that a node of Kind 8, 9, 20 or 22 binds in its home.
+func (p *Plan) Slot(at int) int { return p.slot[at] }
+
 // slotOf returns the function (as an index in Funs) and the slot in which a binder stores its variable.
 func (p *Plan) slotOf(node int, param bool) (home, slot int) {
 	if k := p.nodes[node].Kind; param && (k == 6 || k == 9) {
