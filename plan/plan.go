@@ -47,7 +47,9 @@ func Of(t tree.Tree) *Plan {
 		}
 	}
 	for i := range p.Funs {
-		slices.Sort(p.Funs[i].Caught)
+		f := &p.Funs[i]
+		slices.Sort(f.Caught)
+		f.Caught = slices.Compact(f.Caught)
 	}
 	return p
 }
@@ -78,11 +80,8 @@ func (p *Plan) catch(at int, name string) {
 		if node, _ := p.binds(up, p.child[at], name); node >= 0 {
 			return
 		}
-		if p.Home[at] == p.Home[up] {
-			continue
-		}
-		f := &p.Funs[p.Home[at]]
-		if !slices.Contains(f.Caught, name) {
+		if p.Home[at] != p.Home[up] {
+			f := &p.Funs[p.Home[at]]
 			f.Caught = append(f.Caught, name)
 		}
 	}
