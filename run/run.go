@@ -144,7 +144,8 @@ func bind(name string, v val.Value, up *val.Env) *val.Env {
 	return &val.Env{Name: name, V: v, Up: up}
 }
 
-func find(e *val.Env, name string) (val.Value, bool) {
+// Find returns the value of the innermost binding of a name. Its arguments are not to be changed.
+func Find(e *val.Env, name string) (val.Value, bool) {
 	for ; e != nil; e = e.Up {
 		if e.Name == name {
 			return e.V, true

@@ -20,7 +20,7 @@ func (m *Machine) begin() {
 	case 3:
 		m.ret(unit())
 	case 4:
-		if v, ok := find(m.env, n.Name); ok {
+		if v, ok := Find(m.env, n.Name); ok {
 			m.ret(v)
 		} else {
 			m.stuck()
