@@ -79,6 +79,17 @@ func (r *Replay) To(count int64) api.Errno {
 	return api.OK
 }
 
+// Try does several moves; if they fail, the count and the snapshots are what they were before.
+func (r *Replay) Try(moves func() api.Errno) api.Errno {
+	count, past := r.count, r.past
+	err := moves()
+	if err != api.OK {
+		r.past = past
+		r.To(count)
+	}
+	return err
+}
+
 // load returns the machine as it was at a count that has been kept.
 func (r *Replay) load(count int64) *vm.Machine {
 	v, err := vm.Load(r.m, r.input, r.past.find(count))
