@@ -220,6 +220,26 @@ func TestCost(t *testing.T) {
 	}
 }
 
+// TestStepCost steps beyond the end: each instruction is executed once.
+func TestStepCost(t *testing.T) {
+	s := "let rec f x = if x = 0 then 0 else 1 + f (x - 1) in print (f 30)"
+	o := replay.Opt{Room: 100, Stack: 1000, Fuel: 1000, Every: 50, Most: 4}
+	d, _, _ := New(s, nil, o)
+	m, _, _ := image.Build(s)
+	r, _ := replay.New(m, nil, o)
+	for r.To(r.Count()+1) == api.OK {
+	}
+	all := r.Machine().Ran()
+	if got := d.Do(cmd.Cmd{Kind: 3, N: 99999}); got.Text != "#64 value ()" || d.Ran() != all {
+		t.Errorf("T4: %v, %d instructions, want %d", got, d.Ran(), all)
+	}
+	d.Do(cmd.Cmd{Kind: 10})
+	before := d.Ran()
+	if d.Do(cmd.Cmd{Kind: 3, N: 99999}); d.Ran()-before >= all/2 {
+		t.Errorf("T4: %d instructions in spite of a snapshot", d.Ran()-before)
+	}
+}
+
 func TestExample(t *testing.T) {
 	d, _, _ := New("print 1", nil, replay.Opt{Room: 64, Stack: 64, Fuel: 100, Every: 1, Most: 2})
 	for i, want := range []string{"#0 1:1", "#1 value ()", "#0 1:1"} {

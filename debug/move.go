@@ -34,11 +34,7 @@ func (d *Debugger) changes() func() bool {
 // forward executes a command that moves forward.
 func (d *Debugger) forward(x cmd.Cmd) api.Errno {
 	if x.Kind == 3 {
-		err := d.r.To(d.Count() + x.N)
-		if end, ok := d.r.End(); err == api.EOVER && ok {
-			err = d.r.To(end)
-		}
-		return err
+		return d.r.Toward(d.Count() + x.N)
 	}
 	stops := d.goal(x)
 	return d.r.Try(func() api.Errno {

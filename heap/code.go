@@ -21,10 +21,7 @@ func (h *Heap) Put() []byte {
 }
 
 func put(b []byte, n uint64) []byte {
-	for shift := 56; shift >= 0; shift -= 8 {
-		b = append(b, byte(n>>shift))
-	}
-	return b
+	return append(b, byte(n>>56), byte(n>>48), byte(n>>40), byte(n>>32), byte(n>>24), byte(n>>16), byte(n>>8), byte(n))
 }
 
 func get(b []byte, i int) uint64 {

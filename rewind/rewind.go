@@ -50,7 +50,7 @@ func New(m image.Image, input []int64, o Opt) (*Replay, api.Errno) {
 	if v.Over() != api.Going {
 		r.end = 0
 	}
-	r.past = &shelf{every: o.Every, most: o.Most, k: k, first: v.Put()}
+	r.past = newShelf(k, o.Every, o.Most, v.Put())
 	return r, api.OK
 }
 
@@ -62,21 +62,44 @@ func (r *Replay) To(count int64) api.Errno {
 	if r.end >= 0 && count > r.end {
 		return api.EOVER
 	}
-	from := r.past.k.Before(count)
-	t := trip{r: r, past: r.past}
-	if r.count >= from && r.count <= count {
-		t.v, t.at = r.v, r.count
-	} else {
-		t.v, t.at = r.load(from), from
+	t := r.trip(count)
+	return r.arrive(t, t.advance(count))
+}
+
+// Toward moves to a count, or to the end if it comes before. In one go no instruction is executed twice.
+func (r *Replay) Toward(count int64) api.Errno {
+	if r.end >= 0 {
+		count = min(count, r.end)
 	}
-	if err := t.advance(count); err != api.OK {
-		if t.v == r.v {
-			r.restore()
-		}
-		return err
+	t := r.trip(count)
+	err := t.advance(count)
+	if err == api.EOVER {
+		err = api.OK
 	}
-	r.v, r.count, r.past = t.v, count, t.past
-	return api.OK
+	return r.arrive(t, err)
+}
+
+// trip begins a move to a count: from the present one, unless it is behind or a snapshot is nearer.
+func (r *Replay) trip(count int64) *trip {
+	if from := r.past.k.Before(count); r.count < from || r.count > count {
+		return &trip{r: r, past: r.past, v: r.load(from), at: from}
+	}
+	return &trip{r: r, past: r.past, v: r.v, at: r.count}
+}
+
+// arrive ends a move. If it has failed, everything stays as it was before, and the machine, if it has
+// been moved, is brought back.
+func (r *Replay) arrive(t *trip, err api.Errno) api.Errno {
+	switch {
+	case err == api.OK:
+		r.v, r.count, r.past = t.v, t.at, t.past
+	case t.v == r.v:
+		from := r.past.k.Before(r.count)
+		back := trip{r: r, past: r.past, v: r.load(from), at: from}
+		back.advance(r.count)
+		r.v = back.v
+	}
+	return err
 }
 
 // Try does several moves; if they fail, the count and the snapshots are what they were before.
@@ -97,14 +120,6 @@ func (r *Replay) load(count int64) *vm.Machine {
 		return r.v
 	}
 	return v
-}
-
-// restore brings the machine back to where it was before a trip with it failed.
-func (r *Replay) restore() {
-	t := trip{r: r, past: r.past, at: r.past.k.Before(r.count)}
-	t.v = r.load(t.at)
-	t.advance(r.count)
-	r.v = t.v
 }
 
 // Count returns the present count.

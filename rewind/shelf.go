@@ -3,59 +3,48 @@ package rewind
 import (
 	"slices"
 
-	"hindsight/api"
 	"hindsight/keep"
-	"hindsight/snap"
 )
 
-// shelf has the snapshots that are kept.
+// shelf has the snapshots that are kept. They are kept whole: at each stop a state differs from that
+// of the first stop in nearly all that it has, and to compare them takes longer than to execute the
+// instructions between two stops.
 type shelf struct {
 	every int64
 	most  int
 	k     *keep.Keeper
-	first []byte // the state at count 0, which all others are represented by their differences from
 	shots []shot
 }
 
-// shot is the state at a count: a patch, or the whole state if it is too great for one.
+// shot is the state at a count.
 type shot struct {
 	count int64
-	b     []byte
-	whole bool
+	state []byte
+}
+
+// newShelf returns a shelf that keeps the state at count 0.
+func newShelf(k *keep.Keeper, every int64, most int, first []byte) *shelf {
+	return &shelf{every: every, most: most, k: k, shots: []shot{{0, first}}}
 }
 
 func (s *shelf) clone() *shelf {
-	c := &shelf{every: s.every, most: s.most, first: s.first, shots: slices.Clone(s.shots)}
-	c.k, _ = keep.New(s.every, s.most)
-	for _, x := range s.shots {
-		c.k.Add(x.count)
+	k, _ := keep.New(s.every, s.most)
+	c := newShelf(k, s.every, s.most, s.shots[0].state)
+	for _, x := range s.shots[1:] {
+		c.add(x.count, x.state)
 	}
 	return c
 }
 
 // add keeps the state at a count that the keeper wants.
 func (s *shelf) add(count int64, state []byte) {
-	x := shot{count: count, b: snap.Diff(s.first, state)}
-	if x.b == nil {
-		x.b, x.whole = state, true
-	}
-	s.shots = append(s.shots, x)
+	s.shots = append(s.shots, shot{count, state})
 	gone, _ := s.k.Add(count)
 	s.shots = slices.DeleteFunc(s.shots, func(x shot) bool { return slices.Contains(gone, x.count) })
 }
 
 // find returns the state at a count that has been kept.
 func (s *shelf) find(count int64) []byte {
-	for _, x := range s.shots {
-		if x.count != count {
-			continue
-		}
-		if x.whole {
-			return x.b
-		}
-		if b, err := snap.Apply(s.first, x.b); err == api.OK {
-			return b
-		}
-	}
-	return s.first
+	i := slices.IndexFunc(s.shots, func(x shot) bool { return x.count == count })
+	return s.shots[max(i, 0)].state
 }

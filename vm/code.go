@@ -43,9 +43,7 @@ type writer struct{ b []byte }
 
 func (w *writer) numbers(l ...int) {
 	for _, n := range l {
-		for shift := 8 * (numberBytes - 1); shift >= 0; shift -= 8 {
-			w.b = append(w.b, byte(n>>shift))
-		}
+		w.b = append(w.b, byte(n>>56), byte(n>>48), byte(n>>40), byte(n>>32), byte(n>>24), byte(n>>16), byte(n>>8), byte(n))
 	}
 }
 

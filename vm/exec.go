@@ -225,7 +225,7 @@ func (v *Machine) build(i code.Instr) api.Errno {
 // object makes an object of the words and of so many operands. An operand stands in for it first, so
 // that a lack of stack is found before anything is changed.
 func (v *Machine) object(kind, tag, many int, words ...word.Word) api.Errno {
-	if many > v.f.Added() {
+	if many < 0 || many > v.f.Added() {
 		return api.EFORM
 	}
 	if many == 0 {
