@@ -6,6 +6,7 @@ import (
 	"testing"
 
 	"hindsight/api"
+	"hindsight/samples"
 	"hindsight/tree"
 )
 
@@ -125,5 +126,27 @@ func TestManyNodes(t *testing.T) {
 	}
 	if _, err, at := Parse(s + "+1+C"); err != api.ELIMIT || at != len(s)-2 {
 		t.Errorf("P4.1: 1003 nodes, not valid: %d, %d", err, at)
+	}
+}
+
+// TestAgain parses the text of each tree again.
+func TestAgain(t *testing.T) {
+	l := samples.Texts()
+	for seed := range uint64(200) {
+		l = append(l, samples.Random(seed))
+	}
+	for _, s := range l {
+		x, err, _ := Parse(s)
+		if err == api.ELIMIT {
+			continue
+		}
+		text := tree.Show(x)
+		y, again, at := Parse(text)
+		if again == api.ELIMIT { // the text of a tree has more parentheses
+			continue
+		}
+		if err != api.OK || again != api.OK || tree.Show(y) != text {
+			t.Errorf("P4.1: %s is shown as %s: %d at %d", s, text, again, at)
+		}
 	}
 }
