@@ -148,6 +148,101 @@ func TestCollect(t *testing.T) {
 	}
 }
 
+// wordsOf returns all words of a heap as one list, headers too.
+func wordsOf(h *Heap) []word.Word {
+	b := h.Put()
+	l := make([]word.Word, len(b)/wordBytes-2)
+	for i := range l {
+		l[i] = word.Word(get(b, i+2))
+	}
+	return l
+}
+
+func header(t *testing.T, kind, tag, size int) word.Word {
+	t.Helper()
+	w, ok := word.Head(kind, tag, size)
+	if !ok {
+		t.Fatal("no header")
+	}
+	return w
+}
+
+func TestCollectMovesWhatAnObjectRefersTo(t *testing.T) {
+	h := fresh(t, 100)
+	a := make1(t, h, 1, 7, num(5))
+	b := make1(t, h, 1, 8, a)
+	roots := h.Collect(b)
+	if w, err := h.Get(word.Ptr(0), 0); w != word.Ptr(2) || err != api.OK {
+		t.Errorf("P12.2: the reference is %d, %d", w, err)
+	}
+	want := []word.Word{header(t, 1, 8, 1), word.Ptr(2), header(t, 1, 7, 1), num(5)}
+	if !slices.Equal(roots, []word.Word{word.Ptr(0)}) || !slices.Equal(wordsOf(h), want) {
+		t.Errorf("P12.2: the roots are %v, the words %v", roots, wordsOf(h))
+	}
+}
+
+func TestCollectWithoutRoots(t *testing.T) {
+	h := fresh(t, 100)
+	a := make1(t, h, 1, 7, num(5))
+	make1(t, h, 1, 8, a)
+	if roots := h.Collect(); len(roots) != 0 || h.Used() != 0 || h.Turns() != 1 {
+		t.Errorf("P12.2: the roots are %v, Used is %d, Turns is %d", roots, h.Used(), h.Turns())
+	}
+	if _, err := h.Get(word.Ptr(0), 0); err != api.ENONE {
+		t.Errorf("P12.2: Get of a freed object returns %d", err)
+	}
+	if p := make1(t, h, 1, 9); p != word.Ptr(0) {
+		t.Errorf("P12.2: the first object after Collect is %d", p)
+	}
+}
+
+func TestCollectMovesTwoThatAnObjectRefersTo(t *testing.T) {
+	h := fresh(t, 100)
+	a := make1(t, h, 1, 7, num(5))
+	b := make1(t, h, 2, 8, a, num(6))
+	c := make1(t, h, 3, 9, b, a)
+	roots := h.Collect(c)
+	want := []word.Word{
+		header(t, 3, 9, 2), word.Ptr(3), word.Ptr(6),
+		header(t, 2, 8, 2), word.Ptr(6), num(6),
+		header(t, 1, 7, 1), num(5),
+	}
+	if !slices.Equal(roots, []word.Word{word.Ptr(0)}) || !slices.Equal(wordsOf(h), want) {
+		t.Errorf("P12.2: the roots are %v, the words %v", roots, wordsOf(h))
+	}
+}
+
+// Chains and stars of all sizes: each word is adjusted at some size just when the new heap is full.
+func TestCollectAdjustsAtEachSize(t *testing.T) {
+	for many := 1; many <= 70; many++ {
+		chain, star := fresh(t, 1000), fresh(t, 1000)
+		p := make1(t, chain, 1, 0, num(0))
+		leaves := []word.Word{make1(t, star, 1, 0, num(0))}
+		for i := 1; i < many; i++ {
+			p = make1(t, chain, 1, i, p)
+			leaves = append(leaves, make1(t, star, 1, i, num(int64(i))))
+		}
+		hub := make1(t, star, 2, 0, leaves...)
+		chain.Collect(p)
+		star.Collect(hub)
+		links, spokes := []word.Word{}, []word.Word{header(t, 2, 0, many)}
+		for i := range many {
+			links = append(links, header(t, 1, many-1-i, 1), word.Ptr(2*i+2))
+			spokes = append(spokes, word.Ptr(many+1+2*i))
+		}
+		links[len(links)-1] = num(0)
+		for i := range many {
+			spokes = append(spokes, header(t, 1, i, 1), num(int64(i)))
+		}
+		if !slices.Equal(wordsOf(chain), links) {
+			t.Errorf("P12.2: a chain of %d is %v", many, wordsOf(chain))
+		}
+		if !slices.Equal(wordsOf(star), spokes) {
+			t.Errorf("P12.2: a star of %d is %v", many, wordsOf(star))
+		}
+	}
+}
+
 func TestPutAndLoad(t *testing.T) {
 	h := fresh(t, 20)
 	a := make1(t, h, 1, 9, num(-1))
